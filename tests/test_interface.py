@@ -1,0 +1,79 @@
+"""All names of the interface exist as written, in the modules that have landed."""
+
+import importlib
+import inspect
+import unittest
+
+import asksold
+from asksold.errors import AskError
+
+FUNCTIONS = {
+    "plans": {
+        "is_name": "(thing)", "is_fact": "(plan, thing)", "is_look": "(plan, thing)", "facts": "(plan)",
+        "looks": "(plan)", "sees": "(look, fact)", "seers": "(plan, fact)",
+    },
+    "stores": {"agree": "(one, other, looks)"},
+}
+CLASSES = {
+    "plans": {"Plan": {
+        "__init__": "(self, columns, tables)", "__eq__": "(self, other)", "size_of": "(self, column)",
+        "sides": "(self, table)",
+    }},
+    "stores": {"Store": {
+        "__init__": "(self, plan, present=())", "__eq__": "(self, other)", "__len__": "(self)", "has": "(self, fact)",
+        "rows": "(self, table)", "seen": "(self, look)", "with_facts": "(self, *facts)",
+        "without_facts": "(self, *facts)",
+    }},
+}
+PROPERTIES = {("plans", "Plan"): ["columns", "tables"], ("stores", "Store"): ["plan", "facts"]}
+
+
+def module(name):
+    return importlib.import_module("asksold." + name)
+
+
+class InterfaceTest(unittest.TestCase):
+    def test_the_package_itself_defines_nothing(self):
+        modules = {"errors", "plans", "stores"}
+        names = {name for name in vars(asksold) if not name.startswith("__")}
+        self.assertLessEqual(names, modules)
+
+    def test_functions(self):
+        for file, functions in FUNCTIONS.items():
+            for name, signature in functions.items():
+                with self.subTest(file=file, name=name):
+                    function = vars(module(file))[name]
+                    self.assertEqual(function.__module__, "asksold." + file)
+                    self.assertEqual(str(inspect.signature(function)), signature)
+
+    def test_classes_define_their_methods_themselves(self):
+        for file, classes in CLASSES.items():
+            for name, methods in classes.items():
+                kind = vars(module(file))[name]
+                self.assertEqual(kind.__module__, "asksold." + file)
+                for method, signature in methods.items():
+                    with self.subTest(file=file, name=name, method=method):
+                        self.assertEqual(str(inspect.signature(vars(kind)[method])), signature)
+
+    def test_properties(self):
+        for (file, name), properties in PROPERTIES.items():
+            for attribute in properties:
+                self.assertIsInstance(vars(vars(module(file))[name])[attribute], property)
+
+    def test_full_is_called_off_the_class(self):
+        self.assertIn("full", vars(module("stores").Store))
+        self.assertEqual(str(inspect.signature(module("stores").Store.full)), "(plan)")
+
+    def test_errors_take_what_the_interface_lists(self):
+        listed = {
+            "BadLook": "(at)", "TooMany": "(most)", "NotForSale": "(thread)", "BadAnswers": "(at)",
+            "Contradiction": "(at)", "NoBuyer": "(name)", "BadDeed": "(at)", "BadStory": "(row)", "BadText": "(row)",
+        }
+        for name, signature in listed.items():
+            kind = vars(module("errors"))[name]
+            self.assertTrue(issubclass(kind, AskError))
+            self.assertEqual(str(inspect.signature(kind)), signature)
+
+
+if __name__ == "__main__":
+    unittest.main()
