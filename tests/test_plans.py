@@ -125,7 +125,7 @@ class PlanArgumentsTest(unittest.TestCase):
             columns = [("abcdefghi"[at], at % 6 + 1) for at in range(many)]
             with self.subTest(many=many):
                 self.check(columns, [("t", ("a",))])
-                (self.assertTrue if 1 <= many <= 6 else self.assertFalse)(looks_like_columns(columns))
+                self.assertIs(looks_like_columns(columns), 1 <= many <= 6)
         self.assertEqual(len(Plan([(name, 1) for name in "abcdef"], [("t", ("f",))]).columns), 6)
         self.assert_bad([(name, 1) for name in "abcdefg"], [("t", ("a",))])
         self.assert_bad([], [("t", ("a",))])
