@@ -34,6 +34,11 @@ def is_pair(thing):
     return isinstance(thing, tuple) and len(thing) == 2
 
 
+def is_rising(items):
+    """Return whether each of the items is less than the next one."""
+    return all([item < after for item, after in zip(items, items[1:])])
+
+
 def is_column(thing):
     """Return whether any value is a pair (name, many) of a plan."""
     if not is_pair(thing) or not is_name(thing[0]):
@@ -85,6 +90,7 @@ class Plan:
         self._columns = tuple(columns)
         self._tables = tuple(tables)
         self._sizes = {name: many for name, many in columns}
+        self._shapes = {name: names for name, names in tables}
         self._spans = {name: tuple([self._sizes[column] for column in names]) for name, names in tables}
 
     @property
@@ -112,6 +118,12 @@ class Plan:
         if spans is None:
             return None
         return len(spans)
+
+    def columns_of(self, table):
+        """Return the tuple of the names of a table's columns, None for any other value."""
+        if not isinstance(table, str):
+            return None
+        return self._shapes.get(table)
 
     def spans(self, table):
         """Return the tuple of the sizes of a table's columns, None for any other value."""
@@ -179,12 +191,19 @@ def facts(plan):
     yield from all_facts(plan)
 
 
+def looks_at(plan, table):
+    """Return the ascending list of the looks at a table of the plan."""
+    return [(table, side, value) for side, size in enumerate(plan.spans(table)) for value in range(size)]
+
+
+def all_looks(plan):
+    """Return the ascending list of all looks of the plan."""
+    return [look for table in plan.table_names() for look in looks_at(plan, table)]
+
+
 def looks(plan):
     """Yield all looks of the plan in ascending order."""
-    for table in plan.table_names():
-        for side, size in enumerate(plan.spans(table)):
-            for value in range(size):
-                yield table, side, value
+    yield from all_looks(plan)
 
 
 def sees(look, fact):
@@ -193,8 +212,13 @@ def sees(look, fact):
     return table == fact[0] and value == fact[1][side]
 
 
+def looks_that_see(fact):
+    """Return the ascending list of the looks that see the fact."""
+    table, row = fact
+    return [(table, side, value) for side, value in enumerate(row)]
+
+
 def seers(plan, fact):
     """Return the ascending tuple of the looks that see the fact."""
     check_fact(plan, fact)
-    table, row = fact
-    return tuple([(table, side, value) for side, value in enumerate(row)])
+    return tuple(looks_that_see(fact))

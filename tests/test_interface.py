@@ -13,6 +13,20 @@ FUNCTIONS = {
         "looks": "(plan)", "sees": "(look, fact)", "seers": "(plan, fact)",
     },
     "stores": {"agree": "(one, other, looks)"},
+    "asks": {
+        "is_ask": "(plan, thing)", "count_rows": "(plan, ask)", "rows_of": "(plan, ask)",
+        "facts_of": "(plan, ask, row)", "answer": "(store, ask)", "threads": "(store, ask)",
+    },
+    "settling": {
+        "settles": "(store, looks, ask)", "open_row": "(store, looks, ask)", "other_store": "(store, looks, ask)",
+        "reason": "(store, looks, ask, row)", "needless": "(store, looks, ask)",
+    },
+    "prices": {
+        "is_prices": "(plan, thing)", "uniform": "(the_plan, the_number, **tables)",
+        "price": "(store, prices, ask, *, shelf=())", "cheapest": "(store, prices, ask, *, shelf=())",
+        "load": "(store, prices, ask, *, shelf=())", "is_load": "(store, prices, ask, thing, *, shelf=())",
+        "shows": "(store, prices, ask, number, looks, thing, *, shelf=())",
+    },
 }
 CLASSES = {
     "plans": {"Plan": {
@@ -34,7 +48,7 @@ def module(name):
 
 class InterfaceTest(unittest.TestCase):
     def test_the_package_itself_defines_nothing(self):
-        modules = {"errors", "plans", "stores"}
+        modules = {*FUNCTIONS, "errors", "flows"}
         names = {name for name in vars(asksold) if not name.startswith("__")}
         self.assertLessEqual(names, modules)
 
