@@ -27,6 +27,21 @@ FUNCTIONS = {
         "load": "(store, prices, ask, *, shelf=())", "is_load": "(store, prices, ask, thing, *, shelf=())",
         "shows": "(store, prices, ask, number, looks, thing, *, shelf=())",
     },
+    "leeway": {
+        "leeway": "(store, prices, ask, look, *, shelf=())", "musts": "(store, prices, ask)",
+        "mays": "(store, prices, ask)", "both_prices": "(store, prices, ask, fact)",
+    },
+    "told": {
+        "is_answers": "(plan, thing)", "clash": "(plan, answers)", "implied_store": "(plan, answers)",
+    },
+    "sure": {
+        "status": "(plan, answers, fact)", "reason_for": "(plan, answers, fact)",
+        "is_reason_for": "(plan, answers, fact, thing)", "determined": "(plan, answers, ask)",
+        "two_stores": "(plan, answers, ask)", "sure_rows": "(plan, answers, ask)", "ask_of_look": "(plan, look)",
+    },
+    "consistent": {
+        "overpriced": "(plan, prices)", "consistent": "(plan, prices)", "reductions": "(plan, prices)",
+    },
 }
 CLASSES = {
     "plans": {"Plan": {
