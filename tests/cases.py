@@ -254,10 +254,10 @@ def long_answers():
     """Pairs of a store of the long plan and the answers of that store to great asks, 60 of them at the last."""
     rng = random.Random(1)
     found = []
-    for store, _, ask in greatest_cases():
+    for store, _, ask in greatest_cases()[1:5]:
         others = [other for other in greatest_asks() if other != ask]
         found.append((store, [(other, tuple(answer(store, other))) for other in [ask, others[0], ask[:3], ask[4:]]]))
-    store = found[2][0]
+    store = found[1][0]
     asks = [ask[at:at + many] for ask in greatest_asks() for at in range(0, 11, 2) for many in (1, 3, 5, 7) if at + many <= 11]
     asks = [asks[rng.randrange(len(asks))] for _ in range(57)] + greatest_asks()
     found.append((store, [(ask, tuple(answer(store, ask))) for ask in asks]))
