@@ -136,13 +136,18 @@ def rows_with_facts(plan, ask):
     return pairs
 
 
+def tuples_of(lots):
+    """Return the ascending list of the tuples with one value of each lot."""
+    tuples = [()]
+    for lot in lots:
+        tuples = [(*row, value) for row in tuples for value in lot]
+    return tuples
+
+
 def rows_of(plan, ask):
     """Yield the rows of an ask in ascending order."""
     check_ask(plan, ask)
-    rows = [()]
-    for lot in lots_of(plan, ask):
-        rows = [(*row, value) for row in rows for value in lot]
-    yield from rows
+    yield from tuples_of(lots_of(plan, ask))
 
 
 def is_row(lots, thing):
@@ -170,11 +175,15 @@ def absent_of(found, present):
     return [fact for fact in found if fact not in present]
 
 
+def rows_present(pairs, present):
+    """Return the list of the rows with present facts alone, for rows with their facts."""
+    return [row for row, found in pairs if not absent_of(found, present)]
+
+
 def answer(store, ask):
     """Return the ascending list of the rows in the answer."""
     check_ask(store.plan, ask)
-    present = present_facts(store)
-    return [row for row, found in rows_with_facts(store.plan, ask) if not absent_of(found, present)]
+    return rows_present(rows_with_facts(store.plan, ask), present_facts(store))
 
 
 def looks_at_facts(found):

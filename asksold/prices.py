@@ -1,7 +1,7 @@
 """Prices of looks, and of asks: the least that determines an answer, with looks and a load that show it."""
 
 from asksold.asks import (
-    absent_of, check_ask, is_row, lots_of, present_facts, rows_with_facts, tables_of, threads_with_looks,
+    check_ask, is_row, lots_of, present_facts, rows_present, rows_with_facts, tables_of, threads_with_looks,
 )
 from asksold.errors import BadPrices, NotForSale
 from asksold.flows import AskNet
@@ -87,7 +87,7 @@ class Offer:
 
     def values_in_answer(self):
         """Return a dict whose keys are the pairs (index of a stop, value) of the rows in the answer."""
-        rows = [row for row, found in self.pairs if not absent_of(found, self.present)]
+        rows = rows_present(self.pairs, self.present)
         return {(at, value): True for row in rows for at, value in enumerate(row)}
 
     def net(self):

@@ -218,6 +218,12 @@ def random_prices(rng, plan):
     return {look: rng.randint(least, most) for look in looks(plan) if rng.random() < part}
 
 
+def shuffled(prices):
+    """Equal prices in another order."""
+    items = list(prices.items())
+    return dict(items[1::2] + items[::2])
+
+
 def random_looks(rng, plan, part=None):
     """A list of looks in any order, with duplicates."""
     part = rng.choice([0, 0, 0.1, 0.3]) if part is None else part
@@ -262,3 +268,24 @@ def long_answers():
     asks = [asks[rng.randrange(len(asks))] for _ in range(57)] + greatest_asks()
     found.append((store, [(ask, tuple(answer(store, ask))) for ask in asks]))
     return found
+
+
+def random_web(rng, plan, most_rows=200):
+    """A web of the plan with some of its tables, in any order; each column has a few marks, one may stand twice."""
+    sizes = dict(plan.columns)
+    while True:
+        tables = rng.sample(plan.tables, rng.randint(1, len(plan.tables)))
+        names = rng.sample(["a", "b", "c", "d", "e", "f", "g", "x", "mark", "z", "abcdefgh", "town"], 12)
+        column_of = dict(zip(names, [column for column, _ in plan.columns * 12]))
+        marks = {column: [name for name in names if column_of[name] == column] for column in sizes}
+        most = rng.randint(1, 4)
+        web = tuple((table, tuple(rng.choice(marks[column][:most]) for column in columns)) for table, columns in tables)
+        many = 1
+        for mark in {mark for _, those in web for mark in those}:
+            many *= sizes[column_of[mark]]
+        if many <= most_rows:
+            return web
+
+
+def random_question(rng, plan):
+    return random_web(rng, plan) if rng.random() < 0.5 else random_ask(rng, plan)

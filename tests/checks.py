@@ -3,6 +3,7 @@
 import copy
 import unittest
 
+from asksold.errors import AskError
 from cases import the_same
 
 
@@ -30,6 +31,14 @@ class Checks(unittest.TestCase):
 
     def assert_the_same(self, one, other):
         self.assertTrue(the_same(one, other), f"{one!r} is not {other!r}")
+
+
+def outcome(call, *values, **named):
+    """What a call returns, or the name of the class of its error, and then the error's attributes."""
+    try:
+        return "result", call(*values, **named)
+    except AskError as error:
+        return type(error).__name__, vars(error)
 
 
 def first(generator):

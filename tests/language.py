@@ -494,6 +494,31 @@ def check_attributes(package, name):
             yield Fault("L18", node.lineno, "attributes are assigned through a local name")
 
 
+def check_properties(package, name):
+    """L5: a property has a name of its own, which no method and no class value has."""
+    own = {id(node) for node in package.bodies if isinstance(node, ast.FunctionDef) and is_property(node)}
+    plain = {node.name for node in package.bodies if isinstance(node, ast.FunctionDef) and id(node) not in own}
+    for node in ast.walk(package.trees[name]):
+        if id(node) in own and node.name in plain | package.class_values | package.attributes | METHODS:
+            yield Fault("L5", node.lineno, "a property's name is used for something else")
+
+
+def check_stars(package, name):
+    """L7: behind a star in a call stand only names, attributes off a name, and literals."""
+    for node in ast.walk(package.trees[name]):
+        if not isinstance(node, ast.Call):
+            continue
+        stars = [at for at, part in enumerate(node.args) if isinstance(part, ast.Starred)]
+        for part in node.args[stars[0]:] if stars else []:
+            inner = part.value if isinstance(part, ast.Starred) else part
+            if isinstance(inner, ast.Attribute):
+                inner = inner.value
+            if not is_plain(inner):
+                yield Fault("L7", node.lineno, "this may not stand behind a star")
+        if any(keyword.arg is None for keyword in node.keywords):
+            yield Fault("L7", node.lineno, "no two stars in a call are used here")
+
+
 def check_iterated_at_once(package, name):
     tree = package.trees[name]
     parents = parents_of(tree)
@@ -556,7 +581,7 @@ def check_lambdas(package, name):
 CHECKS = [
     check_text, check_words, check_imports, check_module_level, check_names, check_functions, check_classes,
     check_statements, check_values, check_builtins, check_class_uses, check_attributes, check_iterated_at_once,
-    check_loops, check_lambdas,
+    check_loops, check_lambdas, check_properties, check_stars,
 ]
 
 

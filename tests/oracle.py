@@ -27,9 +27,30 @@ def looks_of_fact(fact):
     return [(fact[0], side, value) for side, value in enumerate(fact[1])]
 
 
+def looks_like_a_web(question):
+    """Whether an ask or a web is a web: its first part is a pair, that of an ask a triple."""
+    return len(question[0]) == 2
+
+
+def marks_of(plan, web):
+    """The dict from each mark, ascending, to its column."""
+    shapes = dict(plan.tables)
+    found = {mark: shapes[table][side] for table, marks in web for side, mark in enumerate(marks)}
+    return {mark: found[mark] for mark in sorted(found)}
+
+
 def lots(plan, ask):
-    """The values of each stop."""
+    """The values of each stop, or of each mark."""
+    if looks_like_a_web(ask):
+        return [tuple(range(sizes_of(plan)[column])) for column in marks_of(plan, ask).values()]
     return [tuple(range(sizes_of(plan)[stop[0]])) if stop[1] is None else stop[1] for stop in ask[::2]]
+
+
+def many_rows(plan, ask):
+    many = 1
+    for lot in lots(plan, ask):
+        many *= len(lot)
+    return many
 
 
 def rows(plan, ask):
@@ -37,6 +58,9 @@ def rows(plan, ask):
 
 
 def facts_of_row(ask, row):
+    if looks_like_a_web(ask):
+        values = dict(zip(sorted({mark for _, marks in ask for mark in marks}), row))
+        return tuple((table, tuple(values[mark] for mark in marks)) for table, marks in ask)
     found = []
     for at, part in enumerate(ask):
         if at % 2 == 0:
@@ -127,6 +151,8 @@ def least_masks(masks):
 
 
 def tables_of(ask):
+    if looks_like_a_web(ask):
+        return [table for table, _ in ask]
     return [name for stop in ask[::2] for name in stop[2]] + [link[0] for link in ask[1::2]]
 
 
@@ -216,10 +242,7 @@ def is_answers_item(plan, item):
     """Whether any value is a pair of an ask with at most 5000 rows and some of its rows, ascending."""
     if type(item) is not tuple or len(item) != 2 or not is_ask(plan, item[0]) or type(item[1]) is not tuple:
         return False
-    many = 1
-    for lot in lots(plan, item[0]):
-        many *= len(lot)
-    return many <= 5000 and all(is_row(plan, item[0], row) for row in item[1]) and is_rising(item[1])
+    return many_rows(plan, item[0]) <= 5000 and all(is_row(plan, item[0], row) for row in item[1]) and is_rising(item[1])
 
 
 def first_wrong_answer(plan, thing):
@@ -251,3 +274,76 @@ def clash(plan, answers):
             if there.issuperset(facts_of_row(item[0], row)):
                 return at, row
     return None
+
+
+def is_name(thing):
+    return type(thing) is str and 1 <= len(thing) <= 8 and set(thing) <= set("abcdefghijklmnopqrstuvwxyz")
+
+
+def is_web(plan, thing):
+    """Whether any value is a web of the plan, part by part of point 23."""
+    if type(thing) is not tuple or not 1 <= len(thing) <= 8:
+        return False
+    shapes, columns, seen = dict(plan.tables), {}, []
+    for part in thing:
+        if type(part) is not tuple or len(part) != 2 or type(part[0]) is not str or part[0] not in shapes:
+            return False
+        if type(part[1]) is not tuple or len(part[1]) != len(shapes[part[0]]) or part[0] in seen:
+            return False
+        seen.append(part[0])
+        for mark, column in zip(part[1], shapes[part[0]]):
+            if not is_name(mark) or columns.setdefault(mark, column) != column:
+                return False
+    return True
+
+
+class Joint:
+    """The sets of looks for sale that settle all of several asks and webs, by trying all sets of looks above 0."""
+
+    def __init__(self, plan, questions, present, prices):
+        self.bonds = [threads(plan, question, present) for question in questions]
+        tables = {name for question in questions for name in tables_of(question)}
+        sold = [look for look in sorted(prices) if look[0] in tables]
+        self.free = [look for look in sold if prices[look] == 0]
+        self.dear = [look for look in sold if prices[look] > 0]
+        self.prices = prices
+        open_bonds = [those for bonds in self.bonds for those in bonds.values() if not those & set(self.free)]
+        masks = [sum(1 << at for at, look in enumerate(self.dear) if look in those) for those in open_bonds]
+        self.price = None
+        for mask in range(1 << len(self.dear)):
+            if all(mask & other for other in masks):
+                cost = sum(prices[look] for at, look in enumerate(self.dear) if mask >> at & 1)
+                self.price = cost if self.price is None else min(cost, self.price)
+
+    def branches(self, thread, index, bought, refused):
+        """The looks of the children of a node with this thread, in their order; None if no node can have it."""
+        if set(bought) & self.bonds[index][thread] or set(self.free) & self.bonds[index][thread]:
+            return None
+        return [look for look in self.dear if look in self.bonds[index][thread] and look not in refused]
+
+    def is_tree(self, number, thing):
+        """Whether any value is a tree for the number, walking down from the first node (point 24)."""
+        if type(number) is not int or type(thing) is not tuple or not thing:
+            return False
+        met = []
+        return self.is_branch(number, thing, 0, [], [], met) and sorted(met) == list(range(len(thing)))
+
+    def is_branch(self, number, nodes, at, bought, refused, met):
+        met.append(at)
+        node = nodes[at]
+        if the_same(node, ("dear",)):
+            return sum(self.prices[look] for look in bought) >= number
+        if type(node) is not tuple or len(node) != 3 or type(node[0]) is not int or type(node[2]) is not tuple:
+            return False
+        if not 0 <= node[0] < len(self.bonds) or not is_among(node[1], self.bonds[node[0]]):
+            return False
+        looks = self.branches(node[1], node[0], bought, refused)
+        if looks is None or len(looks) != len(node[2]):
+            return False
+        for look, child in zip(looks, node[2]):
+            if type(child) is not int or not at < child < len(nodes) or child in met:
+                return False
+            if not self.is_branch(number, nodes, child, [*bought, look], refused, met):
+                return False
+            refused = [*refused, look]
+        return True

@@ -11,8 +11,8 @@ from asksold.settling import settles
 from asksold.stores import Store
 from cases import (
     any_values, ask_a, greatest_asks, greatest_cases, long_plan, many_plans, narrowest_plan, plan_p, prices_one,
-    random_ask, random_looks, random_plan, random_prices, random_store, small_asks, store_s, the_same, too_great_asks,
-    variants, widest_plan,
+    random_ask, random_looks, random_plan, random_prices, random_store, shuffled, small_asks, store_s, the_same,
+    too_great_asks, variants, widest_plan,
 )
 from checks import Checks
 
@@ -31,12 +31,6 @@ def random_cases(many, seed, dearest=11):
         if len([look for look in prices if look[0] in tables]) <= dearest:
             many -= 1
             yield store, prices, ask, shelf, oracle.Offer(plan, ask, store.facts, prices, shelf)
-
-
-def shuffled(prices):
-    """Equal prices in another order."""
-    items = list(prices.items())
-    return dict(items[1::2] + items[::2])
 
 
 class ExamplesTest(Checks):
