@@ -1,4 +1,4 @@
-"""All names of the interface exist as written, in the modules that have landed."""
+"""All names of the interface exist as written."""
 
 import importlib
 import inspect
@@ -42,6 +42,24 @@ FUNCTIONS = {
     "consistent": {
         "overpriced": "(plan, prices)", "consistent": "(plan, prices)", "reductions": "(plan, prices)",
     },
+    "market": {"replayed": "(store, prices, log)"},
+    "webs": {
+        "is_web": "(plan, thing)", "web_of": "(plan, ask)", "web_rows": "(plan, web)", "web_answer": "(store, web)",
+        "web_threads": "(store, web)", "web_settles": "(store, looks, web)",
+    },
+    "joint": {
+        "joint_price": "(store, prices, questions)", "joint_tree": "(store, prices, questions)",
+        "is_joint_tree": "(store, prices, questions, number, thing)",
+    },
+    "judging": {
+        "story_of": "(market)", "first_wrong": "(story)", "concludes": "(story, ask, rows, *names)",
+    },
+    "texts": {
+        "plan_text": "(plan)", "store_text": "(store)", "prices_text": "(plan, prices)", "ask_text": "(plan, ask)",
+        "read_plan": "(text)", "read_store": "(plan, text)", "read_prices": "(plan, text)", "read_ask": "(plan, text)",
+    },
+    "desk": {"answers": "(text)"},
+    "samples": {"sample_plan": "()", "sample_store": "()", "sample_ask": "()", "sample_prices": "()"},
 }
 CLASSES = {
     "plans": {"Plan": {
@@ -53,8 +71,22 @@ CLASSES = {
         "rows": "(self, table)", "seen": "(self, look)", "with_facts": "(self, *facts)",
         "without_facts": "(self, *facts)",
     }},
+    "market": {"Market": {
+        "__init__": "(self, store, prices)", "__eq__": "(self, other)", "do": "(self, deed)",
+        "all_done": "(self, deeds)", "price_for": "(self, name, ask)", "shelf": "(self, name)",
+        "heard": "(self, name)", "purse": "(self, name)", "infers": "(self, ask, *names)", "log": "(self)",
+        "twin": "(self)",
+    }},
+    "desk": {"Desk": {"__init__": "(self)", "say": "(self, row)"}},
 }
-PROPERTIES = {("plans", "Plan"): ["columns", "tables"], ("stores", "Store"): ["plan", "facts"]}
+PROPERTIES = {
+    ("plans", "Plan"): ["columns", "tables"], ("stores", "Store"): ["plan", "facts"],
+    ("market", "Market"): ["store", "prices", "time", "buyers"],
+}
+GENERATORS = [
+    ("plans", "facts"), ("plans", "looks"), ("asks", "rows_of"), ("asks", "threads"), ("webs", "web_rows"),
+    ("webs", "web_threads"),
+]
 
 
 def module(name):
@@ -88,6 +120,13 @@ class InterfaceTest(unittest.TestCase):
         for (file, name), properties in PROPERTIES.items():
             for attribute in properties:
                 self.assertIsInstance(vars(vars(module(file))[name])[attribute], property)
+
+    def test_generators(self):
+        for file, functions in FUNCTIONS.items():
+            for name in functions:
+                is_generator = inspect.isgeneratorfunction(vars(module(file))[name])
+                self.assertIs(is_generator, (file, name) in GENERATORS, name)
+        self.assertTrue(inspect.isgeneratorfunction(module("market").Market.log))
 
     def test_full_is_called_off_the_class(self):
         self.assertIn("full", vars(module("stores").Store))
